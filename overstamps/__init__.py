@@ -1,0 +1,1 @@
+"""Overstamps: strips printed by opaque stamps of one width."""
