@@ -2,7 +2,7 @@
 
 from overstamps.errors import InvalidName, InvalidNumber, InvalidParts, InvalidStamping
 from overstamps.errors import InvalidStrip, InvalidText, NotPossible
-from overstamps.parts import is_integer, least_ring, least_row, splits_ring, splits_row
+from overstamps.parts import Pieces, is_integer, least_ring, least_row, splits_ring, splits_row
 from overstamps.stamps import is_strip, is_text, over
 
 
@@ -19,6 +19,7 @@ class Band:
 
     def __init__(self, stamps):
         self._stamps = stamps
+        self.pieces = Pieces(stamps.words)
 
     @classmethod
     def named(cls, name, stamps):
@@ -41,13 +42,13 @@ class Band:
 
     def fewest(self, text):
         """Return the least number of stampings for a text, or None."""
-        self._check_text(text)
+        self.check_text(text)
         parts = self._least(text)
         return None if parts is None else len(parts)
 
     def splitting(self, text):
         """Return a splitting of a text with as few parts as possible."""
-        self._check_text(text)
+        self.check_text(text)
         parts = self._least(text)
         if parts is None:
             raise NotPossible("the band cannot show this text")
@@ -55,7 +56,7 @@ class Band:
 
     def is_splitting(self, text, thing):
         """Tell whether any object is a splitting of a text."""
-        self._check_text(text)
+        self.check_text(text)
         return self._splits(text, thing)
 
     def stampings_of(self, text, parts):
@@ -78,7 +79,7 @@ class Band:
             strip = self.stamped(strip, word, place)
             yield strip
 
-    def _check_text(self, text):
+    def check_text(self, text):
         """Raise InvalidText unless this is a text of the band."""
         if not is_text(text, self.CELLS):
             raise InvalidText("this is no text of the band")
@@ -122,7 +123,7 @@ class Line(Band):
         return self._stamps(strip, word, place)
 
     def _least(self, text):
-        return least_row(self._stamps.words, text, True)
+        return least_row(self.pieces, text, True)
 
     def _splits(self, text, thing):
         return splits_row(self._stamps.words, text, thing, True)
@@ -150,7 +151,7 @@ class Window(Band):
         return longer[width:width + len(strip)]
 
     def _least(self, text):
-        return least_row(self._stamps.words, text, False)
+        return least_row(self.pieces, text, False)
 
     def _splits(self, text, thing):
         return splits_row(self._stamps.words, text, thing, False)
@@ -177,7 +178,7 @@ class Ring(Band):
         return turned[back:] + turned[:back]
 
     def _least(self, text):
-        return least_ring(self._stamps.words, text)
+        return least_ring(self.pieces, text)
 
     def _splits(self, text, thing):
         return splits_ring(self._stamps.words, text, thing)

@@ -89,24 +89,64 @@ def splits_ring(words, text, thing):
     return agree(words, text + text, thing) and seams_hold(thing + thing[:1], width)
 
 
-def shared(one, other):
-    """Return how many letters two strings have in common from their beginnings on."""
-    many = 0
-    for mine, yours in zip(one, other):
-        if mine != yours:
-            return many
-        many += 1
-    return many
+def spots_of(words):
+    """Return for each piece of the words the ascending list of the (word, offset) where they have it."""
+    spots = {}
+    for word, stamp in enumerate(words):
+        for offset in range(len(stamp)):
+            for stop in range(offset + 1, len(stamp) + 1):
+                spots.setdefault(stamp[offset:stop], []).append((word, offset))
+    return spots
 
 
-def agreeing(words, letters):
-    """Return the ascending list of the (word, offset, length) that the letters begin with."""
-    return [
-        (word, offset, length)
-        for word, stamp in enumerate(words)
-        for offset in range(len(stamp))
-        for length in range(1, shared(stamp[offset:], letters) + 1)
-    ]
+def kinds_of(spots, length, width):
+    """Return how many parts of this length at these spots only begin, do neither, only end, do both."""
+    firsts = inners = lasts = wholes = 0
+    for _, offset in spots:
+        if length == width:
+            wholes += 1
+        elif offset == 0:
+            firsts += 1
+        elif offset + length == width:
+            lasts += 1
+        else:
+            inners += 1
+    return firsts, inners, lasts, wholes
+
+
+class Pieces:
+    """The pieces of some words, of which parts are made: a piece is what a part can show.
+
+    spots tells for each piece where words have it, kinds how many parts of each kind show it: as many as only begin,
+    neither begin nor end, only end, do both. Each beginning of a piece is a piece, too, so whoever goes on from
+    length to length stops at the first letters that are none.
+    """
+
+    def __init__(self, words):
+        self.span = len(words[0])
+        self.spots = spots_of(words)
+        self.kinds = {piece: kinds_of(self.spots[piece], len(piece), self.span) for piece in self.spots}
+
+    def parts_of(self, letters):
+        """Return the ascending list of the (word, offset, length) that the letters begin with."""
+        found = []
+        for length in range(1, len(letters) + 1):
+            spots = self.spots.get(letters[:length])
+            if spots is None:
+                break
+            found.extend([(word, offset, length) for word, offset in spots])
+        return sorted(found)
+
+    def kinds_of_lengths(self, letters):
+        """Return the ascending list of the (length, firsts, inners, lasts, wholes) of the parts of the letters."""
+        found = []
+        for length in range(1, len(letters) + 1):
+            kinds = self.kinds.get(letters[:length])
+            if kinds is None:
+                break
+            firsts, inners, lasts, wholes = kinds
+            found.append((length, firsts, inners, lasts, wholes))
+        return found
 
 
 def least_rest(choices, width, rests):
@@ -154,10 +194,10 @@ def least_cover(steps, width, closed):
     return parts
 
 
-def least_row(words, text, closed):
+def least_row(pieces, text, closed):
     """Return a splitting of a text on a row with as few parts as possible, or None."""
-    steps = [agreeing(words, text[place:]) for place in range(len(text))]
-    return least_cover(steps, len(words[0]), closed)
+    steps = [pieces.parts_of(text[place:place + pieces.span]) for place in range(len(text))]
+    return least_cover(steps, pieces.span, closed)
 
 
 def least_around(steps, width, start, word):
@@ -174,14 +214,14 @@ def least_around(steps, width, start, word):
     return sorted(parts)
 
 
-def least_ring(words, text):
+def least_ring(pieces, text):
     """Return a splitting of a text on a ring with as few parts as possible, or None."""
-    width = len(words[0])
+    width = pieces.span
     size = len(text)
     if size < width:
         return None
     around = text + text
-    steps = [agreeing(words, around[place:place + width]) for place in range(size)]
+    steps = [pieces.parts_of(around[place:place + width]) for place in range(size)]
     found = []
     for start, choices in enumerate(steps):
         for word, _, length in choices:

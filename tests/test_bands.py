@@ -8,22 +8,10 @@ from overstamps.errors import InvalidName, InvalidNumber, InvalidParts, InvalidS
 from overstamps.errors import NotPossible
 from overstamps.stamps import Stamps
 from tests import model
-from tests.things import BIG, odd_things, raised
+from tests.things import BIG, bad_texts, most_cells, odd_things, raised
 
 CLASSES = {"line": Line, "window": Window, "ring": Ring}
 METHODS = ("fewest", "splitting", "is_splitting", "stampings_of", "replay", "__contains__")
-
-
-def most_cells(kind):
-    return 60 if kind == "ring" else 120
-
-
-def bad_texts(kind):
-    """Objects that are no text of the band, although some are strips, or texts of another band."""
-    more = [[], ".", "..", "a.", ".a", "a.b", "ab.", "A", "abA", "ab ", "ab\n", "a" * 121, "." * 120, ["ab"]]
-    if kind == "ring":
-        more = more + ["a" * 61, "ab" * 31, "a" * 120]
-    return odd_things() + more
 
 
 def bad_strips(kind):

@@ -27,6 +27,14 @@ def odd_things():
     ]
 
 
+def bad_texts(kind):
+    """Objects that are no text of the band, although some are strips, or texts of another band."""
+    more = [[], ".", "..", "a.", ".a", "a.b", "ab.", "A", "abA", "ab ", "ab\n", "a" * 121, "." * 120, ["ab"]]
+    if kind == "ring":
+        more = more + ["a" * 61, "ab" * 31, "a" * 120]
+    return odd_things() + more
+
+
 def raised(test, kind, call, *given, **named):
     """Check that a call raises an error of exactly this class."""
     try:
@@ -46,6 +54,32 @@ def long_stamps():
         ["abababa", "abcabca", "aaaabbb", "ccabbac", "cabcabc"],
         ["abcdefgh"], ["aaaaaaaa"], ["aaaaaaaa", "aaaabaaa", "abababab", "bbbaabbb"], ["zzzzzzzy", "yzzzzzzz"],
     ]
+
+
+def drawn_stamps(chance):
+    """Words up to the limits that the document names, drawn: one to six, of one to eight letters, at most 36 letters."""
+    width = chance.randint(1, 8)
+    many = chance.randint(1, min(6, 36 // width))
+    letters = chance.choice(["ab", "ab", "abc", "abcdef"])
+    words = {"".join(chance.choice(letters) for _ in range(width)) for _ in range(many)}
+    return chance.sample(sorted(words), len(words))
+
+
+def most_cells(kind):
+    return 60 if kind == "ring" else 120
+
+
+def mirrored(parts, size, width):
+    """The parts of a splitting read backward, with words that are read backward."""
+    found = []
+    for place, word, offset, length in parts:
+        found.append(((size - place - length) % size, word, width - offset - length, length))
+    return sorted(found)
+
+
+def turned(parts, size, far):
+    """The parts of a splitting of a ring that begins so many cells later."""
+    return sorted(((part[0] - far) % size,) + part[1:] for part in parts)
 
 
 def filled_by_history(kind, size, words, seed):
