@@ -2,15 +2,17 @@
 
 from overstamps.errors import InvalidName, InvalidNumber, InvalidParts, InvalidStamping
 from overstamps.errors import InvalidStrip, InvalidText, NotPossible
-from overstamps.parts import Pieces, is_integer, least_ring, least_row, splits_ring, splits_row
+from overstamps.parts import Pieces, fewest_ring, fewest_row, is_integer, least_ring, least_row
+from overstamps.parts import splits_ring, splits_row
 from overstamps.stamps import is_strip, is_text, over
 
 
 class Band:
     """What lines, windows and rings have in common; it tells nothing about texts by itself.
 
-    Each subclass has fits and stamped, and besides: _least(text), a shortest splitting or None;
-    _splits(text, thing), whether any object is a splitting; _cell(place, size), where a stamping begins.
+    Each subclass has fits and stamped, and besides: _fewest(text), the least number of parts or None; _least(text),
+    a splitting with so few or None; _splits(text, thing), whether any object is a splitting; _cell(place, size),
+    where a stamping begins.
     """
 
     NAME = ""
@@ -38,13 +40,12 @@ class Band:
         return self._stamps
 
     def __contains__(self, text):
-        return is_text(text, self.CELLS) and self._least(text) is not None
+        return is_text(text, self.CELLS) and self._fewest(text) is not None
 
     def fewest(self, text):
         """Return the least number of stampings for a text, or None."""
         self.check_text(text)
-        parts = self._least(text)
-        return None if parts is None else len(parts)
+        return self._fewest(text)
 
     def splitting(self, text):
         """Return a splitting of a text with as few parts as possible."""
@@ -122,6 +123,9 @@ class Line(Band):
         """Return the strip after a stamping."""
         return self._stamps(strip, word, place)
 
+    def _fewest(self, text):
+        return fewest_row(self.pieces, text, True)
+
     def _least(self, text):
         return least_row(self.pieces, text, True)
 
@@ -150,6 +154,9 @@ class Window(Band):
         longer = over(edge + strip + edge, letters, place + width)
         return longer[width:width + len(strip)]
 
+    def _fewest(self, text):
+        return fewest_row(self.pieces, text, False)
+
     def _least(self, text):
         return least_row(self.pieces, text, False)
 
@@ -176,6 +183,9 @@ class Ring(Band):
         turned = over(strip[place:] + strip[:place], self._stamps.words[word], 0)
         back = len(strip) - place
         return turned[back:] + turned[:back]
+
+    def _fewest(self, text):
+        return fewest_ring(self.pieces, text)
 
     def _least(self, text):
         return least_ring(self.pieces, text)

@@ -3,8 +3,11 @@
 A row is a line or a window. It is closed if its first part must begin and its last part must end.
 """
 
-# What is left to cover at the end of a row: no part, so there is no word, offset or length either.
-NO_REST = (0, 0, 0, 0)
+# What cannot be covered counts as so many parts or more; no splitting has as many.
+TOO_MANY = 1000
+
+# The lengths of the parts at a cell with a letter that no word has.
+NO_REACH = (0, 0, 0)
 
 
 def is_integer(thing):
@@ -16,8 +19,9 @@ def is_part(words, thing):
     """Tell whether any object is a part of one of the words, on whatever text."""
     if not isinstance(thing, tuple) or len(thing) != 4:
         return False
-    if not all(is_integer(number) for number in thing):
-        return False
+    for number in thing:
+        if not is_integer(number):
+            return False
     place, word, offset, length = thing
     if place < 0 or not 0 <= word < len(words):
         return False
@@ -26,7 +30,12 @@ def is_part(words, thing):
 
 def are_parts(words, thing):
     """Tell whether any object is a list of parts, and not the empty one."""
-    return isinstance(thing, list) and len(thing) > 0 and all(is_part(words, part) for part in thing)
+    if not isinstance(thing, list):
+        return False
+    for part in thing:
+        if not is_part(words, part):
+            return False
+    return len(thing) > 0
 
 
 def begins(part):
@@ -39,54 +48,42 @@ def ends(part, width):
     return part[2] + part[3] == width
 
 
-def cover(parts, start, size):
-    """Tell whether the parts follow one another from start on, over just so many cells."""
+def cover(words, cells, parts, size, ended):
+    """Tell whether parts follow one another over so many cells, agree with them and have seams that hold.
+
+    The first one stands where it says; ended tells whether what is on its left ends.
+    """
+    width = len(words[0])
+    start = parts[0][0]
     at = start
-    for place, _, _, length in parts:
-        if place != at:
-            return False
-        at = at + length
-    return at == start + size
-
-
-def agree(words, cells, parts):
-    """Tell whether the cells have the letters that the parts show."""
     for place, word, offset, length in parts:
-        if cells[place:place + length] != words[word][offset:offset + length]:
+        if place != at or (offset > 0 and not ended):
             return False
-    return True
-
-
-def seams_hold(parts, width):
-    """Tell whether at each seam of a row the left part ends or the right part begins."""
-    for left, right in zip(parts, parts[1:]):
-        if not ends(left, width) and not begins(right):
+        at = place + length
+        if cells[place:at] != words[word][offset:offset + length]:
             return False
-    return True
+        ended = offset + length == width
+    return at == start + size
 
 
 def splits_row(words, text, thing, closed):
     """Tell whether any object is a splitting of a text on a row."""
-    if not are_parts(words, thing):
+    if not are_parts(words, thing) or thing[0][0] != 0:
         return False
-    width = len(words[0])
-    if closed and not (begins(thing[0]) and ends(thing[-1], width)):
+    if closed and not ends(thing[-1], len(words[0])):
         return False
-    return cover(thing, 0, len(text)) and agree(words, text, thing) and seams_hold(thing, width)
+    return cover(words, text, thing, len(text), not closed)
 
 
 def splits_ring(words, text, thing):
     """Tell whether any object is a splitting of a text on a ring."""
-    if not are_parts(words, thing):
+    if not are_parts(words, thing) or thing[-1][0] >= len(text):
         return False
     width = len(words[0])
-    size = len(text)
-    if thing[-1][0] >= size or not cover(thing, thing[0][0], size):
+    if not any(length == width for place, word, offset, length in thing):
         return False
-    if not any(begins(part) and ends(part, width) for part in thing):
-        return False
-    # The first part stands also behind the last one, for the seam between these two.
-    return agree(words, text + text, thing) and seams_hold(thing + thing[:1], width)
+    # What is on the left of the first part is the last one.
+    return cover(words, text + text, thing, len(text), ends(thing[-1], width))
 
 
 def spots_of(words):
@@ -100,7 +97,7 @@ def spots_of(words):
 
 
 def kinds_of(spots, length, width):
-    """Return how many parts of this length at these spots only begin, do neither, only end, do both."""
+    """Return the length, and how many parts of it at these spots only begin, do neither, only end, do both."""
     firsts = inners = lasts = wholes = 0
     for _, offset in spots:
         if length == width:
@@ -111,15 +108,15 @@ def kinds_of(spots, length, width):
             lasts += 1
         else:
             inners += 1
-    return firsts, inners, lasts, wholes
+    return length, firsts, inners, lasts, wholes
 
 
 class Pieces:
     """The pieces of some words, of which parts are made: a piece is what a part can show.
 
-    spots tells for each piece where words have it, kinds how many parts of each kind show it: as many as only begin,
-    neither begin nor end, only end, do both. Each beginning of a piece is a piece, too, so whoever goes on from
-    length to length stops at the first letters that are none.
+    spots tells for each piece where words have it, kinds its length and how many parts of each kind show it: how many
+    only begin, neither begin nor end, only end, do both. Each beginning of a piece is a piece, too, so whoever goes
+    on from length to length stops at the first letters that are none.
     """
 
     def __init__(self, words):
@@ -144,87 +141,140 @@ class Pieces:
             kinds = self.kinds.get(letters[:length])
             if kinds is None:
                 break
-            firsts, inners, lasts, wholes = kinds
-            found.append((length, firsts, inners, lasts, wholes))
+            found.append(kinds)
         return found
 
 
-def least_rest(choices, width, rests):
-    """Return the shortest way to go on at a cell with these choices, given the ways for the cells behind it.
+def reach_of(kinds):
+    """Return the greatest lengths of such parts: that begin but do not end, that do not end, that end; 0 for none."""
+    begun = loose = ended = 0
+    for length, firsts, inners, lasts, wholes in kinds:
+        if firsts > 0:
+            begun = length
+        if firsts > 0 or inners > 0:
+            loose = length
+        if lasts > 0 or wholes > 0:
+            ended = length
+    return begun, loose, ended
 
-    It is a pair: the way on after a part that does not end, and the way on after a part that ends. A way is None
-    or a tuple (number of parts, word, offset, length); the last three are its first part.
+
+def reaches_of(pieces, cells, size):
+    """Return for each of so many cells the greatest lengths of the parts that can stand there."""
+    known = {}
+    reaches = []
+    for at in range(size):
+        letters = cells[at:at + pieces.span]
+        if letters not in known:
+            known[letters] = reach_of(pieces.kinds_of_lengths(letters))
+        reaches.append(known[letters])
+    return reaches
+
+
+def fewest_rests(reaches, width, closed):
+    """Return with how few parts each cell of a row and all behind it can be covered, and no cell at the end.
+
+    It is a pair of lists: after a part that does not end, so that one that begins must follow, and after one that ends.
+    The parts at the cells may be longer than what is left of the row, if it is not closed.
     """
-    free = []
-    for word, offset, length in choices:
-        if length > len(rests):
-            continue
-        after_open, after_end = rests[len(rests) - length]
-        rest = after_end if offset + length == width else after_open
-        if rest is not None:
-            free.append((rest[0] + 1, word, offset, length))
-    # After a part that does not end only a part that begins can stand.
-    begun = [way for way in free if way[2] == 0]
-    return min(begun, default=None), min(free, default=None)
+    size = len(reaches)
+    after_loose = [TOO_MANY] * size + [TOO_MANY if closed else 0]
+    after_ended = [TOO_MANY] * size + [0]
+    at = size
+    for begun, loose, ended in reversed(reaches):
+        behind = at
+        at -= 1
+        # A part that does not end can be cut short anywhere.
+        least_begun = min(after_loose[behind:behind + begun]) if begun > 0 else TOO_MANY
+        least = min(after_loose[behind:behind + loose]) if loose > begun else least_begun
+        # Of the parts that end the longest one is enough: after an end, fewer cells never need more parts. If it is
+        # longer than what is left, then a part that does not end covers that.
+        rest = after_ended[at + ended] if at + ended <= size else TOO_MANY
+        if rest < least:
+            least = rest
+        if rest < least_begun and ended == width:
+            least_begun = rest
+        after_loose[at] = least_begun + 1
+        after_ended[at] = least + 1
+    return after_loose, after_ended
 
 
-def least_rests(steps, width, closed):
-    """Return the list of the shortest ways to cover the last 0, 1, 2 .. cells of a row."""
-    rests = [(None if closed else NO_REST, NO_REST)]
-    for choices in reversed(steps):
-        rests.append(least_rest(choices, width, rests))
-    return rests
-
-
-def least_cover(steps, width, closed):
-    """Return the shortest list of parts that covers a row with these choices at its cells, or None."""
-    rests = least_rests(steps, width, closed)
+def least_cover(pieces, cells, rests, ended):
+    """Return the least of the shortest lists of parts that cover a row, given its rests and what stands before it."""
+    after_loose, after_ended = rests
+    width = pieces.span
     parts = []
-    place = 0
-    ended = not closed
-    while place < len(steps):
-        after_open, after_end = rests[len(steps) - place]
-        way = after_end if ended else after_open
-        if way is None:
-            return None
-        _, word, offset, length = way
-        parts.append((place, word, offset, length))
+    at = 0
+    while at < len(cells):
+        left = after_ended[at] if ended else after_loose[at]
+        for word, offset, length in pieces.parts_of(cells[at:at + width]):
+            behind = after_ended if offset + length == width else after_loose
+            if behind[at + length] + 1 == left and (ended or offset == 0):
+                break
+        parts.append((at, word, offset, length))
         ended = offset + length == width
-        place = place + length
+        at = at + length
     return parts
+
+
+def fewest_row(pieces, text, closed):
+    """Return the least number of parts of a splitting of a text on a row, or None."""
+    after_loose, after_ended = fewest_rests(reaches_of(pieces, text, len(text)), pieces.span, closed)
+    fewest = after_loose[0] if closed else after_ended[0]
+    return fewest if fewest < TOO_MANY else None
 
 
 def least_row(pieces, text, closed):
     """Return a splitting of a text on a row with as few parts as possible, or None."""
-    steps = [pieces.parts_of(text[place:place + pieces.span]) for place in range(len(text))]
-    return least_cover(steps, pieces.span, closed)
+    rests = fewest_rests(reaches_of(pieces, text, len(text)), pieces.span, closed)
+    fewest = rests[0][0] if closed else rests[1][0]
+    return least_cover(pieces, text, rests, not closed) if fewest < TOO_MANY else None
 
 
-def least_around(steps, width, start, word):
-    """Return the shortest splitting of a ring in which this word stands whole at start, or None."""
-    size = len(steps)
-    around = steps + steps
-    # A whole part both begins and ends, so the cells between its end and its beginning are a row that is not closed.
-    others = least_cover(around[start + width:start + size], width, False)
-    if others is None:
-        return None
-    parts = [(start, word, 0, width)]
-    for place, other, offset, length in others:
-        parts.append(((start + width + place) % size, other, offset, length))
-    return sorted(parts)
+def rests_around(reaches, width, start):
+    """Return the rests of the cells of a ring between the end and the beginning of a whole part at start."""
+    # A whole part both begins and ends, so these cells are a row that is not closed.
+    around = reaches + reaches
+    return fewest_rests(around[start + width:start + len(reaches)], width, False)
+
+
+def fewest_around(pieces, text):
+    """Return the least number of parts of a splitting of a ring, and where in it a whole part stands.
+
+    The number is TOO_MANY if there is no splitting.
+    """
+    width = pieces.span
+    size = len(text)
+    best = (TOO_MANY, 0)
+    if size < width:
+        return best
+    reaches = reaches_of(pieces, text + text, size)
+    if NO_REACH in reaches:
+        return best
+    for start in range(size):
+        # What is as short as parts of this width can be need not be looked for again.
+        if reaches[start][2] == width and (best[0] - 1) * width >= size:
+            _, after_ended = rests_around(reaches, width, start)
+            best = min(best, (after_ended[0] + 1, start))
+    return best
+
+
+def fewest_ring(pieces, text):
+    """Return the least number of parts of a splitting of a text on a ring, or None."""
+    fewest, _ = fewest_around(pieces, text)
+    return fewest if fewest < TOO_MANY else None
 
 
 def least_ring(pieces, text):
     """Return a splitting of a text on a ring with as few parts as possible, or None."""
+    fewest, start = fewest_around(pieces, text)
+    if fewest >= TOO_MANY:
+        return None
     width = pieces.span
     size = len(text)
-    if size < width:
-        return None
     around = text + text
-    steps = [pieces.parts_of(around[place:place + width]) for place in range(size)]
-    found = []
-    for start, choices in enumerate(steps):
-        for word, _, length in choices:
-            if length == width:
-                found.append(least_around(steps, width, start, word))
-    return min([parts for parts in found if parts is not None], key=len, default=None)
+    word, _ = pieces.spots[around[start:start + width]][0]
+    rests = rests_around(reaches_of(pieces, around, size), width, start)
+    parts = [(start, word, 0, width)]
+    for place, other, offset, length in least_cover(pieces, around[start + width:start + size], rests, True):
+        parts.append(((start + width + place) % size, other, offset, length))
+    return sorted(parts)

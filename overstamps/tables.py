@@ -6,7 +6,7 @@ from overstamps.parts import is_integer
 UNREADABLE = "?"
 
 
-def spots(words, sign):
+def agreeing(words, sign):
     """Return the ascending list of the (word, offset) whose letters agree with a sign of a text or a pattern."""
     return [
         (word, offset)
@@ -19,7 +19,7 @@ def spots(words, sign):
 def first_entries(band, sign):
     """Return the entries that the first cell must have, with their greatest bounds."""
     closed = band.NAME == Line.NAME
-    return [(word, offset, 1) for word, offset in spots(band.stamps.words, sign) if offset == 0 or not closed]
+    return [(word, offset, 1) for word, offset in agreeing(band.stamps.words, sign) if offset == 0 or not closed]
 
 
 def next_entries(band, entries, sign):
@@ -29,7 +29,7 @@ def next_entries(band, entries, sign):
     behind_any = min([bound + 1 for word, offset, bound in entries], default=None)
     behind_end = min([bound + 1 for word, offset, bound in entries if offset + 1 == width], default=None)
     found = []
-    for word, offset in spots(band.stamps.words, sign):
+    for word, offset in agreeing(band.stamps.words, sign):
         allowed = [bounds.get((word, offset)), behind_end]
         if offset == 0:
             allowed.append(behind_any)
