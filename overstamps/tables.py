@@ -30,10 +30,10 @@ def next_entries(band, entries, sign):
     behind_end = min([bound + 1 for word, offset, bound in entries if offset + 1 == width], default=None)
     found = []
     for word, offset in agreeing(band.stamps.words, sign):
-        allowed = [bounds.get((word, offset)), behind_end]
-        if offset == 0:
-            allowed.append(behind_any)
-        bound = min([number for number in allowed if number is not None], default=None)
+        behind_seam = behind_any if offset == 0 else behind_end
+        bound = bounds.get((word, offset), behind_seam)
+        if behind_seam is not None and behind_seam < bound:
+            bound = behind_seam
         if bound is not None:
             found.append((word, offset, bound))
     return found
@@ -61,9 +61,9 @@ def is_entry(words, letter, thing):
     """Tell whether any object is an entry for a cell with this letter."""
     if not isinstance(thing, tuple) or len(thing) != 3:
         return False
-    if not all(is_integer(number) for number in thing):
+    word, offset, bound = thing
+    if not is_integer(word) or not is_integer(offset) or not is_integer(bound):
         return False
-    word, offset, _ = thing
     if not 0 <= word < len(words) or not 0 <= offset < len(words[word]):
         return False
     return words[word][offset] == letter
