@@ -10,9 +10,9 @@ from overstamps.stamps import is_strip, is_text, over
 class Band:
     """What lines, windows and rings have in common; it tells nothing about texts by itself.
 
-    Each subclass has fits and stamped, and besides: _fewest(text), the least number of parts or None; _least(text),
-    a splitting with so few or None; _splits(text, thing), whether any object is a splitting; _cell(place, size),
-    where a stamping begins.
+    Each subclass has fits and stamped, and besides: covered(size, place), the ascending list of the cells under a
+    stamping; _fewest(text), the least number of parts or None; _least(text), a splitting with so few or None;
+    _splits(text, thing), whether any object is a splitting; _cell(place, size), where a stamping begins.
     """
 
     NAME = ""
@@ -64,7 +64,7 @@ class Band:
         """Return the stampings of the parts of a splitting, in the order of the parts."""
         if not self.is_splitting(text, parts):
             raise InvalidParts("the parts are no splitting of the text")
-        return [(word, self._cell(place - offset, len(text))) for place, word, offset, _ in parts]
+        return [self.stamping_of(part, len(text)) for part in parts]
 
     def replay(self, size, stampings):
         """Yield the strips before, between and after the stampings on an empty strip."""
@@ -85,10 +85,26 @@ class Band:
         if not is_text(text, self.CELLS):
             raise InvalidText("this is no text of the band")
 
-    def _check_stamping(self, strip, word, place):
-        """Raise an error unless this is a strip of the band and a stamping on it."""
+    def check_strip(self, strip):
+        """Raise InvalidStrip unless this is a strip of the band."""
         if not is_strip(strip, self.CELLS):
             raise InvalidStrip("this is no strip of the band")
+
+    def is_stamping(self, size, thing):
+        """Tell whether any object is a stamping on a strip of this size."""
+        if not isinstance(thing, tuple) or len(thing) != 2:
+            return False
+        word, place = thing
+        return is_integer(word) and is_integer(place) and self.fits(size, word, place)
+
+    def stamping_of(self, part, size):
+        """Return the stamping of which a part is seen on a strip of this size."""
+        place, word, offset, _ = part
+        return word, self._cell(place - offset, size)
+
+    def _check_stamping(self, strip, word, place):
+        """Raise an error unless this is a strip of the band and a stamping on it."""
+        self.check_strip(strip)
         if not self.fits(len(strip), word, place):
             raise InvalidStamping("there is no such stamping on this strip")
 
@@ -100,14 +116,7 @@ class Band:
         """Tell whether any object is a list of stampings on a strip of this size, and not too long."""
         if not isinstance(thing, list) or len(thing) > self.STAMPINGS:
             return False
-        return all(self._is_stamping(size, stamping) for stamping in thing)
-
-    def _is_stamping(self, size, thing):
-        """Tell whether any object is a stamping on a strip of this size."""
-        if not isinstance(thing, tuple) or len(thing) != 2:
-            return False
-        word, place = thing
-        return is_integer(word) and is_integer(place) and self.fits(size, word, place)
+        return all(self.is_stamping(size, stamping) for stamping in thing)
 
 
 class Line(Band):
@@ -123,11 +132,15 @@ class Line(Band):
         """Return the strip after a stamping."""
         return self._stamps(strip, word, place)
 
+    def covered(self, size, place):
+        """Return the ascending list of the cells of a strip of this size that a stamping covers."""
+        return list(range(place, place + self._stamps.width))
+
     def _fewest(self, text):
-        return fewest_row(self.pieces, text, True)
+        return fewest_row(self.pieces, text, [False] * len(text), True)
 
     def _least(self, text):
-        return least_row(self.pieces, text, True)
+        return least_row(self.pieces, text, [False] * len(text), True)
 
     def _splits(self, text, thing):
         return splits_row(self._stamps.words, text, thing, True)
@@ -154,11 +167,15 @@ class Window(Band):
         longer = over(edge + strip + edge, letters, place + width)
         return longer[width:width + len(strip)]
 
+    def covered(self, size, place):
+        """Return the ascending list of the cells of a strip of this size that a stamping covers."""
+        return list(range(max(place, 0), min(place + self._stamps.width, size)))
+
     def _fewest(self, text):
-        return fewest_row(self.pieces, text, False)
+        return fewest_row(self.pieces, text, [False] * len(text), False)
 
     def _least(self, text):
-        return least_row(self.pieces, text, False)
+        return least_row(self.pieces, text, [False] * len(text), False)
 
     def _splits(self, text, thing):
         return splits_row(self._stamps.words, text, thing, False)
@@ -183,6 +200,10 @@ class Ring(Band):
         turned = over(strip[place:] + strip[:place], self._stamps.words[word], 0)
         back = len(strip) - place
         return turned[back:] + turned[:back]
+
+    def covered(self, size, place):
+        """Return the ascending list of the cells of a strip of this size that a stamping covers."""
+        return sorted([(place + at) % size for at in range(self._stamps.width)])
 
     def _fewest(self, text):
         return fewest_ring(self.pieces, text)

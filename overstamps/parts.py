@@ -1,6 +1,7 @@
 """Parts, what is seen of stampings: splittings of rows and rings of cells, and the shortest ones.
 
-A row is a line or a window. It is closed if its first part must begin and its last part must end.
+A row is a line or a window. It is closed if its first part must begin and its last part must end. If a text is printed
+over an old strip, some cells of a row may be kept: what they show is their old letter, and no part is needed there.
 """
 
 # What cannot be covered counts as so many parts or more; no splitting has as many.
@@ -8,6 +9,11 @@ TOO_MANY = 1000
 
 # The lengths of the parts at a cell with a letter that no word has.
 NO_REACH = (0, 0, 0)
+
+# What stands before a cell: a part that does not end, a part that ends, a cell that is kept.
+LOOSE = 0
+ENDED = 1
+KEPT = 2
 
 
 def is_integer(thing):
@@ -170,15 +176,17 @@ def reaches_of(pieces, cells, size):
     return reaches
 
 
-def fewest_rests(reaches, width, closed):
+def fewest_rests(reaches, kept, width, closed):
     """Return with how few parts each cell of a row and all behind it can be covered, and no cell at the end.
 
-    It is a pair of lists: after a part that does not end, so that one that begins must follow, and after one that ends.
-    The parts at the cells may be longer than what is left of the row, if it is not closed.
+    It is a tuple of three lists: after a part that does not end, so that one that begins must follow, after one that
+    ends, and after a cell that is kept, so that another one or a part that begins must follow. kept tells for each cell
+    whether it may be kept. The parts at the cells may be longer than what is left of the row, if it is not closed.
     """
     size = len(reaches)
     after_loose = [TOO_MANY] * size + [TOO_MANY if closed else 0]
     after_ended = [TOO_MANY] * size + [0]
+    after_kept = [TOO_MANY] * size + [0]
     at = size
     for begun, loose, ended in reversed(reaches):
         behind = at
@@ -193,48 +201,62 @@ def fewest_rests(reaches, width, closed):
             least = rest
         if rest < least_begun and ended == width:
             least_begun = rest
-        after_loose[at] = least_begun + 1
+        after_loose[at] = after_kept[at] = least_begun + 1
         after_ended[at] = least + 1
-    return after_loose, after_ended
+        if kept[at]:
+            after_kept[at] = min(after_kept[at], after_kept[behind])
+            after_ended[at] = min(after_ended[at], after_kept[behind])
+    return after_loose, after_ended, after_kept
 
 
-def least_cover(pieces, cells, rests, ended):
-    """Return the least of the shortest lists of parts that cover a row, given its rests and what stands before it."""
-    after_loose, after_ended = rests
+def least_cover(pieces, cells, kept, rests, before):
+    """Return the least of the shortest lists of parts that cover a row, given its rests and what stands before it.
+
+    A cell that can be kept in such a list is kept.
+    """
     width = pieces.span
     parts = []
     at = 0
     while at < len(cells):
-        left = after_ended[at] if ended else after_loose[at]
+        left = rests[before][at]
+        if kept[at] and before != LOOSE and rests[KEPT][at + 1] == left:
+            before = KEPT
+            at += 1
+            continue
         for word, offset, length in pieces.parts_of(cells[at:at + width]):
-            behind = after_ended if offset + length == width else after_loose
-            if behind[at + length] + 1 == left and (ended or offset == 0):
+            behind = ENDED if offset + length == width else LOOSE
+            if rests[behind][at + length] + 1 == left and (before == ENDED or offset == 0):
                 break
         parts.append((at, word, offset, length))
-        ended = offset + length == width
+        before = behind
         at = at + length
     return parts
 
 
-def fewest_row(pieces, text, closed):
-    """Return the least number of parts of a splitting of a text on a row, or None."""
-    after_loose, after_ended = fewest_rests(reaches_of(pieces, text, len(text)), pieces.span, closed)
-    fewest = after_loose[0] if closed else after_ended[0]
+def rests_of_row(pieces, cells, kept, closed):
+    """Return the rests of a row of cells."""
+    return fewest_rests(reaches_of(pieces, cells, len(cells)), kept, pieces.span, closed)
+
+
+def fewest_row(pieces, cells, kept, closed):
+    """Return the least number of parts that cover a row but for cells that are kept, or None."""
+    # At the beginning of a closed row a part begins, as it does behind a cell that is kept.
+    fewest = rests_of_row(pieces, cells, kept, closed)[KEPT if closed else ENDED][0]
     return fewest if fewest < TOO_MANY else None
 
 
-def least_row(pieces, text, closed):
-    """Return a splitting of a text on a row with as few parts as possible, or None."""
-    rests = fewest_rests(reaches_of(pieces, text, len(text)), pieces.span, closed)
-    fewest = rests[0][0] if closed else rests[1][0]
-    return least_cover(pieces, text, rests, not closed) if fewest < TOO_MANY else None
+def least_row(pieces, cells, kept, closed):
+    """Return as few parts as possible that cover a row but for cells that are kept, or None."""
+    rests = rests_of_row(pieces, cells, kept, closed)
+    before = KEPT if closed else ENDED
+    return least_cover(pieces, cells, kept, rests, before) if rests[before][0] < TOO_MANY else None
 
 
 def rests_around(reaches, width, start):
     """Return the rests of the cells of a ring between the end and the beginning of a whole part at start."""
     # A whole part both begins and ends, so these cells are a row that is not closed.
-    around = reaches + reaches
-    return fewest_rests(around[start + width:start + len(reaches)], width, False)
+    around = (reaches + reaches)[start + width:start + len(reaches)]
+    return fewest_rests(around, [False] * len(around), width, False)
 
 
 def fewest_around(pieces, text):
@@ -253,8 +275,8 @@ def fewest_around(pieces, text):
     for start in range(size):
         # What is as short as parts of this width can be need not be looked for again.
         if reaches[start][2] == width and (best[0] - 1) * width >= size:
-            _, after_ended = rests_around(reaches, width, start)
-            best = min(best, (after_ended[0] + 1, start))
+            rests = rests_around(reaches, width, start)
+            best = min(best, (rests[ENDED][0] + 1, start))
     return best
 
 
@@ -275,6 +297,7 @@ def least_ring(pieces, text):
     word, _ = pieces.spots[around[start:start + width]][0]
     rests = rests_around(reaches_of(pieces, around, size), width, start)
     parts = [(start, word, 0, width)]
-    for place, other, offset, length in least_cover(pieces, around[start + width:start + size], rests, True):
+    cells = around[start + width:start + size]
+    for place, other, offset, length in least_cover(pieces, cells, [False] * len(cells), rests, ENDED):
         parts.append(((start + width + place) % size, other, offset, length))
     return sorted(parts)
