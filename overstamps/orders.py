@@ -4,6 +4,7 @@ What is still to be pressed falls into runs. A run (start, many) is so many part
 the end if need be; of two parts in different runs either one can be pressed before the other.
 """
 
+from itertools import accumulate
 from math import comb
 
 from overstamps.bands import Ring
@@ -46,18 +47,61 @@ class Layers:
         return [(start, at), (behind, many - at - 1)]
 
 
+def uncovered(layers):
+    """Return the ascending list of the parts that lie under no other one, so that they can be pressed last."""
+    return [index for index in range(layers.many) if not layers.under_left[index] and not layers.under_right[index]]
+
+
+def with_one_more(ranks, under_right, under_left):
+    """Return the ranks of a run with one part more on its right.
+
+    The ranks of a run tell in how many orders of it 0, 1, 2 and so on of its parts come before its rightmost one. The
+    flags tell whether that one lies under the new part, and whether the new part lies under it.
+    """
+    if under_right:
+        return [0] + list(accumulate(ranks))
+    if under_left:
+        return list(accumulate(ranks[::-1]))[::-1] + [0]
+    return [sum(ranks)] * (len(ranks) + 1)
+
+
+def ways_from(layers, start, most):
+    """Return in how many orders 0, 1, 2 and so on parts from one part on can be pressed, up to so many."""
+    ranks = [1]
+    ways = [1, 1]
+    last = start
+    while len(ways) <= most:
+        behind = layers.after(last)
+        ranks = with_one_more(ranks, layers.under_right[last], layers.under_left[behind])
+        ways.append(sum(ranks))
+        last = behind
+    return ways
+
+
+def ways_of_all(layers):
+    """Return in how many orders all parts can be pressed."""
+    many = layers.many
+    if not layers.is_ring:
+        return ways_from(layers, 0, many)[many]
+    for index in range(many):
+        behind = layers.after(index)
+        if not layers.under_right[index] and not layers.under_left[behind]:
+            # Of the parts at this seam none lies under the other one, so the ring is a row from there on.
+            return ways_from(layers, behind, many)[many]
+    # When one part is pressed last, the other ones are a row from its end to its beginning.
+    return sum([ways_from(layers, layers.after(index), many - 1)[many - 1] for index in uncovered(layers)])
+
+
 def ways_of_runs(layers):
     """Return for each run in how many orders its parts can be pressed."""
     many_parts = layers.many
-    ways = {(start, 0): 1 for start in range(many_parts)}
-    for many in range(1, many_parts + 1):
-        # A run of all parts is needed from the first part on only; on a row no run goes around the end.
-        starts = many_parts if layers.is_ring and many < many_parts else many_parts - many + 1
-        for start in range(starts):
-            ways[start, many] = sum([
-                ways_together(ways, layers.runs_without(start, at, many))
-                for at in range(many) if layers.can_start(start, at, many)
-            ])
+    ways = {}
+    for start in range(many_parts):
+        # On a ring a run of all parts is needed from the first part on only; on a row no run goes around the end.
+        most = many_parts - 1 if layers.is_ring else many_parts - start
+        for many, number in enumerate(ways_from(layers, start, most)):
+            ways[start, many] = number
+    ways[0, many_parts] = ways_of_all(layers)
     return ways
 
 
@@ -112,8 +156,7 @@ def is_order(band, text, parts, thing):
 
 def count_orders(band, text, parts):
     """Return how many orders show the parts."""
-    layers = layers_of(band, text, parts)
-    return ways_of_runs(layers)[0, layers.many]
+    return ways_of_all(layers_of(band, text, parts))
 
 
 def nth_order(band, text, parts, index):
@@ -173,8 +216,7 @@ def always_before(band, text, parts):
 
 def may_be_last(band, text, parts):
     """Return the ascending list of the parts that can be pressed last."""
-    layers = layers_of(band, text, parts)
-    return [index for index in range(layers.many) if not layers.under_left[index] and not layers.under_right[index]]
+    return uncovered(layers_of(band, text, parts))
 
 
 def may_be_first(band, text, parts):
